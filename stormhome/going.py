@@ -13,8 +13,14 @@ class Party:
         self.food = food
 
 
-def may_take(land, party, taking):
-    return taking & party.held & set_at(land, party.place) == taking
+def party_numbers(party):
+    """Give the four numbers that tell a party."""
+    return (party.place, party.held, party.storms, party.food)
+
+
+def may_take(land, place, held, taking):
+    """Tell if a party at this place with this set may take these caches."""
+    return taking & held & set_at(land, place) == taking
 
 
 def food_with(land, party, taking):
@@ -33,6 +39,14 @@ def party_behind(land, party, taking, leg, extra):
     if food < 0:
         return None
     return Party(leg.to_place, party.held - taking, party.storms - extra, food)
+
+
+def losing_extra(land, party, taking, leg):
+    """Give the least extra days by which the party is lost on the leg, or None if the weather can't choose such."""
+    for extra in range(most_extra(leg, party.storms) + 1):
+        if party_behind(land, party, taking, leg, extra) is None:
+            return extra
+    return None
 
 
 def is_safe(needs, party):

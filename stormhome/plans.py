@@ -1,6 +1,6 @@
 """Plans: how their text is read, their one form, and which rule a party goes by."""
 
-from stormhome.land import CACHE_BITS, MOST_LIMIT, MOST_STORMS, cache_called, caches_in, place_called
+from stormhome.land import CACHE_BITS, MOST_LIMIT, MOST_STORMS, cache_called, place_called
 from stormhome.texts import bytes_of_lines, number_within
 
 MOST_RULES = 30
@@ -143,9 +143,9 @@ def rule_taking(rule):
 
 def holds(condition, party):
     if condition.about == "have":
-        return condition.number in caches_in(party.held)
+        return party.held & CACHE_BITS[condition.number] != 0
     if condition.about == "lack":
-        return condition.number not in caches_in(party.held)
+        return party.held & CACHE_BITS[condition.number] == 0
     amount = party.food if condition.about == "food" else party.storms
     if condition.sign == "<":
         return amount < condition.number
@@ -153,7 +153,12 @@ def holds(condition, party):
 
 
 def fits(rule, party):
-    return rule.place == party.place and all([holds(condition, party) for condition in rule.conditions])
+    if rule.place != party.place:
+        return False
+    for condition in rule.conditions:
+        if not holds(condition, party):
+            return False
+    return True
 
 
 def first_fitting(plan, party):
